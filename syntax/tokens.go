@@ -36,7 +36,7 @@ func split(src string) []token {
 	var tokens []token
 	at := 0
 	for {
-		at += spacesLength(src[at:])
+		at += countFirst(src[at:], isSpace)
 		next := firstToken(src[at:])
 		next.at = at
 		tokens = append(tokens, next)
@@ -47,12 +47,13 @@ func split(src string) []token {
 	}
 }
 
-func spacesLength(rest string) int {
-	length := 0
-	for length < len(rest) && isSpace(rest[length]) {
-		length++
+// countFirst tells how many bytes that are such stand at the beginning of rest.
+func countFirst(rest string, isSuch func(byte) bool) int {
+	count := 0
+	for count < len(rest) && isSuch(rest[count]) {
+		count++
 	}
-	return length
+	return count
 }
 
 func firstToken(rest string) token {
@@ -61,10 +62,10 @@ func firstToken(rest string) token {
 	}
 	switch first := rest[0]; {
 	case isLetter(first):
-		word := rest[:wordLength(rest)]
+		word := rest[:countFirst(rest, isWordByte)]
 		return token{kind: wordKind(word), word: word}
 	case isDigit(first):
-		digits := rest[:digitsLength(rest)]
+		digits := rest[:countFirst(rest, isDigit)]
 		return token{kind: numberKind(digits), word: digits}
 	case first == '\'':
 		return tokenUnlessEmpty(text, rest[:textLength(rest)])
@@ -79,14 +80,6 @@ func tokenUnlessEmpty(k kind, word string) token {
 	return token{kind: k, word: word}
 }
 
-func wordLength(rest string) int {
-	length := 0
-	for length < len(rest) && isWordByte(rest[length]) {
-		length++
-	}
-	return length
-}
-
 func wordKind(word string) kind {
 	switch {
 	case isKeyword(word):
@@ -95,14 +88,6 @@ func wordKind(word string) kind {
 		return name
 	}
 	return bad
-}
-
-func digitsLength(rest string) int {
-	length := 0
-	for length < len(rest) && isDigit(rest[length]) {
-		length++
-	}
-	return length
 }
 
 func numberKind(digits string) kind {

@@ -1,115 +1,158 @@
 package syntax
 
-func (p *parser) expr() {
-	p.both()
-	for p.accept("or") {
-		p.both()
+import (
+	"strconv"
+	"strings"
+
+	"satchel/api"
+	"satchel/value"
+)
+
+func (p *parser) exprs() []Expr { return list(p, p.expr) }
+
+func (p *parser) expr() Expr { return p.chain(p.both, "or") }
+
+func (p *parser) both() Expr { return p.chain(p.no, "and") }
+
+func (p *parser) sum() Expr { return p.chain(p.product, "+", "-") }
+
+func (p *parser) product() Expr { return p.chain(p.unary, "*", "/") }
+
+// chain reads operands with these words between: the first two belong together first.
+func (p *parser) chain(operand func() Expr, words ...string) Expr {
+	made := operand()
+	for sign := p.peek(); p.accept(words...); sign = p.peek() {
+		made = operation(sign, made, operand())
 	}
+	return made
 }
 
-func (p *parser) both() {
-	p.no()
-	for p.accept("and") {
-		p.no()
-	}
+func operation(sign token, operands ...Expr) Expr {
+	return &Operation{sign.word, sign.at, operands}
 }
 
-func (p *parser) no() {
+func (p *parser) no() Expr {
 	if p.sees("not") {
-		p.opened("not", p.no)
-		return
+		return p.ahead("not", p.no)
 	}
-	p.compare()
+	return p.compare()
 }
 
-func (p *parser) compare() {
-	p.sum()
-	switch {
+func (p *parser) unary() Expr {
+	if p.sees("-") {
+		return p.ahead("-", p.unary)
+	}
+	return p.atom()
+}
+
+// ahead reads a word, which is open, and the operand that it stands ahead of.
+func (p *parser) ahead(word string, operand func() Expr) Expr {
+	sign := p.peek()
+	return operation(sign, opened(p, word, operand))
+}
+
+func (p *parser) compare() Expr {
+	left := p.sum()
+	switch sign := p.peek(); {
 	case p.accept("=", "<>", "<", "<=", ">", ">="):
-		p.sum()
+		return operation(sign, left, p.sum())
 	case p.accept("is"):
-		p.accept("not")
-		p.expect("null")
+		return p.isNull(operation(sign, left))
 	case p.accept("not"):
 		p.expect("in")
-		p.enclosed(p.query)
+		return p.within()
 	case p.accept("in"):
-		p.enclosed(p.query)
+		return p.within()
 	}
+	return left
 }
 
-func (p *parser) sum() {
-	p.product()
-	for p.accept("+", "-") {
-		p.product()
+// isNull reads what stands behind is. An is not null is a not ahead of an is null.
+func (p *parser) isNull(is Expr) Expr {
+	not := p.peek()
+	negated := p.accept("not")
+	p.expect("null")
+	if negated {
+		return operation(not, is)
 	}
+	return is
 }
 
-func (p *parser) product() {
-	p.unary()
-	for p.accept("*", "/") {
-		p.unary()
-	}
-}
-
-func (p *parser) unary() {
-	if p.sees("-") {
-		p.opened("-", p.unary)
-		return
-	}
-	p.atom()
-}
-
-func (p *parser) atom() {
-	switch {
-	case p.acceptKind(number, text), p.accept("true", "false", "null"):
-	case p.acceptKind(name):
-		if p.accept(".") {
-			p.name()
-		}
+func (p *parser) atom() Expr {
+	switch first := p.peek(); {
+	case p.acceptKind(number):
+		return &Constant{numberOf(first.word)}
+	case p.acceptKind(text):
+		return &Constant{textOf(first.word)}
+	case p.accept("true"):
+		return &Constant{value.Bool(true)}
+	case p.accept("false"):
+		return &Constant{value.Bool(false)}
+	case p.accept("null"):
+		return &Constant{value.Null()}
+	case first.kind == name:
+		return p.column()
+	case p.isQuery(), p.accept("exists"):
+		return p.within()
 	case p.sees("("):
-		p.enclosed(p.inAtom())
-	case p.accept("exists"):
-		p.enclosed(p.query)
+		return enclosed(p, p.expr)
 	case p.accept("coalesce"):
-		p.enclosed(p.exprs)
+		return operation(first, enclosed(p, p.exprs)...)
 	case p.sees("case"):
-		p.opened("case", p.arms)
-	default:
-		p.refuse()
+		return opened(p, "case", p.arms)
 	}
+	p.refuse()
+	return nil
 }
 
-func (p *parser) exprs() { p.list(p.expr) }
+func numberOf(digits string) api.Value {
+	n, _ := strconv.ParseInt(digits, 10, 64) // no token is too great
+	return value.Int(n)
+}
 
-// inAtom is what stands inside the "(" of an atom that is next: a query if
-// select is the first token behind it that is no "(", else an expr.
-func (p *parser) inAtom() func() {
+// textOf copies what stands between the quotes: a table may keep it for longer
+// than the statement lives.
+func textOf(quoted string) api.Value {
+	inside := quoted[1 : len(quoted)-1]
+	return value.Text(strings.Clone(strings.ReplaceAll(inside, "''", "'")))
+}
+
+func (p *parser) column() Expr {
+	first := p.name()
+	if p.accept(".") {
+		return &Column{Table: first.Word, Name: p.name().Word, At: first.At}
+	}
+	return &Column{Name: first.Word, At: first.At}
+}
+
+// within reads a query within an expr.
+func (p *parser) within() Expr {
+	p.unmade = true
+	enclosed(p, p.query)
+	return nil
+}
+
+// isQuery tells whether the atom that is next is a query: whether select is the
+// first token behind its "(" that is no "(".
+func (p *parser) isQuery() bool {
 	i := p.next
 	for p.tokens[i].is("(") {
 		i++
 	}
-	if p.tokens[i].is("select") {
-		return p.query
-	}
-	return p.expr
+	return i > p.next && p.tokens[i].is("select")
 }
 
 // arms reads what stands behind case, up to its end.
-func (p *parser) arms() {
-	p.arm()
+func (p *parser) arms() Expr {
+	made := &Case{Arms: []Arm{p.arm()}}
 	for p.sees("when") {
-		p.arm()
+		made.Arms = append(made.Arms, p.arm())
 	}
-	if p.accept("else") {
-		p.expr()
-	}
+	made.Else = p.clauseIfAny("else")
 	p.expect("end")
+	return made
 }
 
-func (p *parser) arm() {
-	p.expect("when")
-	p.expr()
-	p.expect("then")
-	p.expr()
+func (p *parser) arm() Arm {
+	return Arm{p.clause("when"), p.clause("then")}
 }

@@ -281,7 +281,7 @@ func others() []string {
 }
 
 // TestGrammar (P3): in each seed, cut off behind each token and then with each
-// token put in, taken out or put in another's stead, Check finds the place
+// token put in, taken out or put in another's stead, Parse finds the place
 // that the grammar itself does.
 func TestGrammar(t *testing.T) {
 	rules := readGrammar(grammar)
@@ -322,8 +322,8 @@ func compareWith(t *testing.T, rules map[string]*node, pieces ...[]string) {
 			wantAt = len(strings.Join(append(tokens[:wrong:wrong], ""), " "))
 		}
 	}
-	if e, at := Check(src); e != wantErr || at != wantAt {
-		t.Errorf("Check(%q) = %d, %d, want %d, %d", src, e, at, wantErr, wantAt)
+	if _, e, at := Parse(src); e != wantErr || at != wantAt {
+		t.Errorf("Parse(%q) = %d, %d, want %d, %d", src, e, at, wantErr, wantAt)
 	}
 }
 

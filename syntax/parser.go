@@ -1,28 +1,36 @@
-// Package syntax reads statements: their tokens and their grammar.
+// Package syntax reads statements: their tokens, their grammar, and the tree
+// that a statement is.
 package syntax
 
 import "satchel/api"
 
-// Check tells whether src is a statement: OK 0, or what is wrong first and where (P3).
-func Check(src string) (api.Errno, int) {
+// Parse makes a statement of src, with OK 0, or tells what is wrong first and
+// where (P3). It makes none yet of a text with a query within an expr, or with
+// union, except or intersect: then it is nil, with OK 0.
+func Parse(src string) (Statement, api.Errno, int) {
 	if len(src) > api.MaxText {
-		return api.ErrLong, 0
+		return nil, api.ErrLong, 0
 	}
 	p := parser{tokens: split(src)}
-	p.statement()
+	statement := p.statement()
 	p.expectEnd()
-	return p.errno, p.at
+	if p.errno != api.OK || p.unmade {
+		return nil, p.errno, p.at
+	}
+	return statement, api.OK, 0
 }
 
 // parser goes through the tokens once, from the left. A part of the grammar is
 // a method that reads as far as it can; the first token that fits nowhere is
-// thus the first one behind which nothing could make it a statement.
+// thus the first one behind which nothing could make it a statement. Behind an
+// error what the methods answer is of no use, and nobody gets it.
 type parser struct {
 	tokens []token
 	next   int
 	depth  int // how many things are open
 	errno  api.Errno
 	at     int
+	unmade bool // something was read that the tree does not have yet
 }
 
 // fail keeps the first error only. It goes to the last token, which no part of
@@ -36,11 +44,15 @@ func (p *parser) fail(errno api.Errno, at int) {
 }
 
 func (p *parser) refuse() {
-	p.fail(api.ErrSyntax, p.tokens[p.next].at)
+	p.fail(api.ErrSyntax, p.peek().at)
+}
+
+func (p *parser) peek() token {
+	return p.tokens[p.next]
 }
 
 func (p *parser) sees(words ...string) bool {
-	return p.tokens[p.next].is(words...)
+	return p.peek().is(words...)
 }
 
 // accept takes the next token if it is one of these words.
@@ -61,60 +73,72 @@ func (p *parser) expect(words ...string) {
 	}
 }
 
-// expectOneOf takes one of these words.
-func (p *parser) expectOneOf(words ...string) {
-	if !p.accept(words...) {
-		p.refuse()
-	}
-}
-
 func (p *parser) expectEnd() {
-	if p.tokens[p.next].kind != end {
+	if p.peek().kind != end {
 		p.refuse()
 	}
 }
 
-// acceptKind takes the next token if it is of one of these kinds.
-func (p *parser) acceptKind(kinds ...kind) bool {
-	for _, k := range kinds {
-		if p.tokens[p.next].kind == k {
-			p.next++
-			return true
-		}
+// acceptKind takes the next token if it is of that kind.
+func (p *parser) acceptKind(k kind) bool {
+	if p.peek().kind != k {
+		return false
 	}
-	return false
+	p.next++
+	return true
 }
 
-func (p *parser) name() {
+func (p *parser) name() Name {
+	next := p.peek()
 	if !p.acceptKind(name) {
 		p.refuse()
 	}
+	return Name{next.word, next.at}
+}
+
+// clause reads a word and the expr behind it.
+func (p *parser) clause(word string) Clause {
+	at := p.peek().at
+	p.expect(word)
+	return Clause{at, p.expr()}
+}
+
+// clauseIfAny reads a word and the expr behind it, if the word stands there.
+func (p *parser) clauseIfAny(word string) *Clause {
+	if !p.sees(word) {
+		return nil
+	}
+	clause := p.clause(word)
+	return &clause
 }
 
 // list reads an item, and more of them with commas between.
-func (p *parser) list(item func()) {
-	item()
+func list[T any](p *parser, item func() T) []T {
+	items := []T{item()}
 	for p.accept(",") {
-		item()
+		items = append(items, item())
 	}
+	return items
 }
 
 // opened reads first and what is inside it, up to where it is open no more.
-func (p *parser) opened(first string, inside func()) {
-	at := p.tokens[p.next].at
+func opened[T any](p *parser, first string, inside func() T) T {
+	at := p.peek().at
 	p.expect(first)
 	p.depth++
 	if p.depth > api.MaxDepth {
 		p.fail(api.ErrDeep, at)
 	}
-	inside()
+	item := inside()
 	p.depth--
+	return item
 }
 
 // enclosed reads what stands between an open "(" and its ")".
-func (p *parser) enclosed(inside func()) {
-	p.opened("(", func() {
-		inside()
+func enclosed[T any](p *parser, inside func() T) T {
+	return opened(p, "(", func() T {
+		item := inside()
 		p.expect(")")
+		return item
 	})
 }

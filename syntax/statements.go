@@ -2,118 +2,128 @@ package syntax
 
 import "satchel/api"
 
-func (p *parser) statement() {
-	switch {
+func (p *parser) statement() Statement {
+	switch first := p.peek(); {
 	case p.accept("create"):
-		p.create()
+		return p.create()
 	case p.accept("drop"):
 		p.expect("table")
-		p.name()
+		return &Drop{p.name()}
 	case p.accept("insert"):
-		p.insert()
+		return p.insert()
 	case p.accept("delete"):
 		p.expect("from")
-		p.name()
-		p.where()
+		return &Delete{p.name(), p.clauseIfAny("where")}
 	case p.accept("update"):
-		p.update()
+		return p.update()
 	case p.accept("begin", "commit", "rollback"):
-	default:
-		p.query()
+		return &Transaction{first.word}
 	}
+	return p.query()
 }
 
-func (p *parser) create() {
+func (p *parser) create() *Create {
 	p.expect("table")
-	p.name()
+	table := p.name()
 	p.expect("(")
-	columns := 0
-	p.list(func() {
-		columns++
-		if columns > api.MaxColumns {
+	count := 0
+	columns := list(p, func() NewColumn {
+		count++
+		if count > api.MaxColumns {
 			p.refuse()
 		}
-		p.column()
+		return NewColumn{p.name(), p.columnType()}
 	})
 	p.expect(")")
+	return &Create{table, columns}
 }
 
-func (p *parser) column() {
-	p.name()
-	p.expectOneOf("int", "text", "bool")
-}
-
-func (p *parser) insert() {
-	p.expect("into")
-	p.name()
-	if p.accept("values") {
-		p.list(p.row)
-		return
+func (p *parser) columnType() int {
+	switch {
+	case p.accept("int"):
+		return api.Int
+	case p.accept("text"):
+		return api.Text
+	case p.accept("bool"):
+		return api.Bool
 	}
-	p.query()
+	p.refuse()
+	return api.Null
+}
+
+func (p *parser) insert() *Insert {
+	insert := &Insert{Into: p.peek().at}
+	p.expect("into")
+	insert.Table = p.name()
+	if p.accept("values") {
+		insert.Rows = list(p, p.row)
+	} else {
+		insert.Query = p.query()
+	}
+	return insert
 }
 
 // row does not count its "(" as open, unlike enclosed.
-func (p *parser) row() {
+func (p *parser) row() Row {
+	at := p.peek().at
 	p.expect("(")
-	p.list(p.expr)
+	exprs := p.exprs()
 	p.expect(")")
+	return Row{at, exprs}
 }
 
-func (p *parser) update() {
-	p.name()
+func (p *parser) update() *Update {
+	table := p.name()
 	p.expect("set")
-	p.list(p.assignment)
-	p.where()
+	return &Update{table, list(p, p.set), p.clauseIfAny("where")}
 }
 
-func (p *parser) assignment() {
-	p.name()
-	p.expect("=")
-	p.expr()
+func (p *parser) set() Set {
+	column := p.name()
+	equals := p.clause("=")
+	return Set{column, equals.At, equals.Expr}
 }
 
-// where reads a where, if there is one.
-func (p *parser) where() {
-	if p.accept("where") {
-		p.expr()
-	}
-}
-
-func (p *parser) query() {
-	p.term()
+func (p *parser) query() *Select {
+	first := p.term()
 	for p.accept("union", "except") {
+		p.unmade = true
 		p.accept("all")
 		p.term()
 	}
+	return first
 }
 
-func (p *parser) term() {
-	p.factor()
+func (p *parser) term() *Select {
+	first := p.factor()
 	for p.accept("intersect") {
+		p.unmade = true
 		p.accept("all")
 		p.factor()
 	}
+	return first
 }
 
-func (p *parser) factor() {
+func (p *parser) factor() *Select {
 	if p.sees("(") {
-		p.enclosed(p.query)
-		return
+		return enclosed(p, p.query)
 	}
 	p.expect("select")
-	p.accept("distinct")
+	made := &Select{Distinct: p.accept("distinct"), Star: p.peek().at}
 	if !p.accept("*") {
-		p.list(p.expr)
+		made.Exprs = p.exprs()
 	}
 	if p.accept("from") {
-		p.list(p.source)
+		made.From = list(p, p.source)
 	}
-	p.where()
+	made.Where = p.clauseIfAny("where")
+	return made
 }
 
-// source reads a table behind a from, with the name it has there.
-func (p *parser) source() {
-	p.name()
-	p.acceptKind(name)
+func (p *parser) source() Source {
+	table := p.name()
+	if p.peek().kind == name {
+		return Source{table, p.name()}
+	}
+	return Source{table, table}
 }

@@ -48,8 +48,8 @@ func (c *checker) statement(s syntax.Statement) {
 		c.condition(s.Where, itself(c.table(s.Table)))
 	case *syntax.Update:
 		c.update(s)
-	case *syntax.Select:
-		c.query(s)
+	case syntax.Query:
+		c.query(s, nil)
 	}
 }
 
@@ -82,7 +82,7 @@ func (c *checker) insert(s *syntax.Insert) {
 		c.fill(t, row.At, c.exprs(row.Exprs, nil)...)
 	}
 	if s.Query != nil {
-		c.fill(t, s.Into, c.query(s.Query)...)
+		c.fill(t, s.Into, c.query(s.Query, nil)...)
 	}
 }
 
@@ -116,14 +116,38 @@ func isSet(column string, sets ...syntax.Set) bool {
 }
 
 // query is the types of its columns.
-func (c *checker) query(s *syntax.Select) []int {
-	in := c.from(s.From)
+func (c *checker) query(q syntax.Query, around *scope) []int {
+	switch q := q.(type) {
+	case *syntax.Select:
+		return c.selected(q, around)
+	case *syntax.Combined:
+		return c.combined(q, around)
+	}
+	return nil
+}
+
+func (c *checker) combined(q *syntax.Combined, around *scope) []int {
+	first := c.query(q.First, around)
+	second := c.query(q.Second, around)
+	if len(first) != len(second) {
+		c.fail(api.ErrWidth, q.At)
+		return first
+	}
+	var types []int
+	for i := range first {
+		types = append(types, c.expectFit(q.At, first[i], second[i]))
+	}
+	return types
+}
+
+func (c *checker) selected(s *syntax.Select, around *scope) []int {
+	in := c.from(s.From, around)
 	types := c.columns(s, in)
 	c.condition(s.Where, in)
 	return types
 }
 
-func (c *checker) columns(s *syntax.Select, in scope) []int {
+func (c *checker) columns(s *syntax.Select, in *scope) []int {
 	if s.Exprs != nil {
 		return c.exprs(s.Exprs, in)
 	}

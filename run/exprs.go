@@ -9,10 +9,10 @@ import (
 )
 
 // exprs goes through the values of exprs, from the left, as the cells of a row.
-func exprs(list []syntax.Expr, taken []value.Row) iter.Seq2[int, api.Value] {
+func exprs(list []syntax.Expr, in *around) iter.Seq2[int, api.Value] {
 	return func(yield func(int, api.Value) bool) {
 		for i, e := range list {
-			if !yield(i, expr(e, taken)) {
+			if !yield(i, expr(e, in)) {
 				return
 			}
 		}
@@ -28,34 +28,35 @@ func row(cells iter.Seq2[int, api.Value]) value.Row {
 	return made
 }
 
-// expr is the value of an expr, where these rows of the tables around are taken.
-func expr(e syntax.Expr, taken []value.Row) api.Value {
+func expr(e syntax.Expr, in *around) api.Value {
 	switch e := e.(type) {
 	case *syntax.Constant:
 		return e.Value
 	case *syntax.Column:
-		return taken[e.Source][e.Cell]
+		return in.cell(e)
 	case *syntax.Operation:
-		return value.Of(e.Word, row(exprs(e.Operands, taken))...)
+		return value.Of(e.Word, row(exprs(e.Operands, in))...)
 	case *syntax.Case:
-		return choice(e, taken)
+		return choice(e, in)
+	case *syntax.Within:
+		return within(e, in)
 	}
 	return value.Null()
 }
 
-func choice(c *syntax.Case, taken []value.Row) api.Value {
+func choice(c *syntax.Case, in *around) api.Value {
 	for _, arm := range c.Arms {
-		if holds(&arm.When, taken) {
-			return expr(arm.Then.Expr, taken)
+		if holds(&arm.When, in) {
+			return expr(arm.Then.Expr, in)
 		}
 	}
 	if c.Else != nil {
-		return expr(c.Else.Expr, taken)
+		return expr(c.Else.Expr, in)
 	}
 	return value.Null()
 }
 
-// holds tells whether a when is true of the rows that are taken, or a where, if there is one.
-func holds(clause *syntax.Clause, taken []value.Row) bool {
-	return clause == nil || value.IsTrue(expr(clause.Expr, taken))
+// holds tells whether a when is true, or a where, if there is one.
+func holds(clause *syntax.Clause, in *around) bool {
+	return clause == nil || value.IsTrue(expr(clause.Expr, in))
 }

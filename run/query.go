@@ -9,15 +9,45 @@ import (
 	"satchel/value"
 )
 
-// query is the rows of a select, in order.
-func query(tables table.List, s *syntax.Select) []value.Row {
+// query is the rows of a query, in order, in new memory.
+func query(q syntax.Query, in *around) []value.Row {
+	switch q := q.(type) {
+	case *syntax.Select:
+		return selected(q, in)
+	case *syntax.Combined:
+		return combined(q, in)
+	}
+	return nil
+}
+
+// combined has each row once on both sides, without all: what counts how often a
+// row is there then tells whether it is.
+func combined(q *syntax.Combined, in *around) []value.Row {
+	first, second := query(q.First, in), query(q.Second, in)
+	if !q.All {
+		first, second = value.Once(first), value.Once(second)
+	}
+	also, rest := value.Matched(first, second)
+	switch {
+	case q.Word == "intersect":
+		return also
+	case q.Word == "except":
+		return rest
+	case q.All:
+		return value.Sorted(first, second)
+	}
+	return value.Sorted(rest, second)
+}
+
+func selected(s *syntax.Select, outer *around) []value.Row {
 	var rows []value.Row
-	for taken := range together(tables, s.From) {
-		if holds(s.Where, taken) {
-			rows = append(rows, row(cells(s, taken)))
+	for taken := range together(outer.tables, s.From) {
+		in := outer.with(taken)
+		if holds(s.Where, in) {
+			rows = append(rows, row(cells(s, in)))
 		}
 	}
-	value.Sort(rows)
+	rows = value.Sorted(rows)
 	if s.Distinct {
 		rows = value.Once(rows)
 	}
@@ -35,14 +65,25 @@ func together(tables table.List, from []syntax.Source) iter.Seq[[]value.Row] {
 }
 
 // cells goes through what a select says of the rows that are taken.
-func cells(s *syntax.Select, taken []value.Row) iter.Seq2[int, api.Value] {
+func cells(s *syntax.Select, in *around) iter.Seq2[int, api.Value] {
 	if s.Exprs == nil {
-		return value.Cells(taken...)
+		return value.Cells(in.taken...)
 	}
-	return exprs(s.Exprs, taken)
+	return exprs(s.Exprs, in)
 }
 
-func width(tables table.List, s *syntax.Select) int {
+// width is how many columns a query has; of two that are combined both have as many.
+func width(tables table.List, q syntax.Query) int {
+	switch q := q.(type) {
+	case *syntax.Select:
+		return selectWidth(tables, q)
+	case *syntax.Combined:
+		return width(tables, q.First)
+	}
+	return 0
+}
+
+func selectWidth(tables table.List, s *syntax.Select) int {
 	if s.Exprs != nil {
 		return len(s.Exprs)
 	}

@@ -24,8 +24,8 @@ func Statement(tables table.List, s syntax.Statement) (table.List, api.Result) {
 		return remove(tables, s)
 	case *syntax.Update:
 		return update(tables, s)
-	case *syntax.Select:
-		return tables, api.Result{Width: width(tables, s), Rows: query(tables, s)}
+	case syntax.Query:
+		return tables, api.Result{Width: width(tables, s), Rows: query(s, nothing(tables))}
 	}
 	return tables, api.Result{}
 }
@@ -50,11 +50,11 @@ func insert(tables table.List, s *syntax.Insert) (table.List, api.Result) {
 
 func newRows(tables table.List, s *syntax.Insert) []value.Row {
 	if s.Query != nil {
-		return query(tables, s.Query)
+		return query(s.Query, nothing(tables))
 	}
 	var rows []value.Row
 	for _, r := range s.Rows {
-		rows = append(rows, row(exprs(r.Exprs, nil)))
+		rows = append(rows, row(exprs(r.Exprs, nothing(tables))))
 	}
 	return rows
 }
@@ -63,7 +63,7 @@ func remove(tables table.List, s *syntax.Delete) (table.List, api.Result) {
 	t, _ := tables.Find(s.Table.Word)
 	var kept []value.Row
 	for taken := range value.Together(t.Rows) {
-		if !holds(s.Where, taken) {
+		if !holds(s.Where, nothing(tables).with(taken)) {
 			kept = append(kept, taken[0])
 		}
 	}
@@ -75,21 +75,22 @@ func update(tables table.List, s *syntax.Update) (table.List, api.Result) {
 	var rows []value.Row
 	count := 0
 	for taken := range value.Together(t.Rows) {
-		if !holds(s.Where, taken) {
+		in := nothing(tables).with(taken)
+		if !holds(s.Where, in) {
 			rows = append(rows, taken[0])
 			continue
 		}
-		rows = append(rows, changed(t, s.Sets, taken))
+		rows = append(rows, changed(t, s.Sets, in))
 		count++
 	}
 	return tables.With(t.Having(rows)), api.Result{Count: count}
 }
 
 // changed is a new row: that which is taken, with what the sets say.
-func changed(t table.Table, sets []syntax.Set, taken []value.Row) value.Row {
-	made := row(value.Cells(taken...))
+func changed(t table.Table, sets []syntax.Set, in *around) value.Row {
+	made := row(value.Cells(in.taken...))
 	for _, set := range sets {
-		made[t.Cell(set.Column.Word)] = expr(set.Expr, taken)
+		made[t.Cell(set.Column.Word)] = expr(set.Expr, in)
 	}
 	return made
 }

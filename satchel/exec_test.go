@@ -176,27 +176,17 @@ func TestEveryStatementEnds(t *testing.T) {
 	}
 }
 
-// TestExamples: those of the document that have no query within another.
+// TestExamples: those of the document.
 func TestExamples(t *testing.T) {
 	b := New()
 	wantChange(t, b, "create table t (a int, b text)", 0)
 	wantChange(t, b, "insert into t values (1, 'x'), (1, 'x'), (2, null)", 3)
 	wantRows(t, b, "select a + 1 from t where b = 'x'", 1, "2|2|")
 	wantRows(t, b, "select a from t where not b = 'x'", 1, "")
+	wantRows(t, b, "select distinct a from t union all select 1", 1, "1|1|2|")
+	wantRows(t, b, "select a from t except all select 1", 1, "1|2|")
+	wantRows(t, b, "select a, (select b from t u where u.a = t.a) from t", 2, "1 null|1 null|2 null|")
 	wantError(t, b, "select c from t", api.ErrName, 7)
 	wantError(t, b, "select a from t where b = 1", api.ErrType, 24)
 	wantError(t, b, "select", api.ErrSyntax, 6)
-}
-
-// TestNotYet: of a query within another, and of union, except and intersect,
-// nothing is done yet; Parse's errors are told all the same.
-func TestNotYet(t *testing.T) {
-	b := shop(t)
-	for _, src := range []string{
-		"delete from t where a in (select 1)", "delete from t where a not in (select 5)", "delete from t where exists (select 1)", "update t set a = (select 9)", "insert into t values (1, (select 'x'))",
-		"insert into none select 1 union select 2", "insert into none select 1 except all select 2", "select 1 intersect select 1", "(select 1) union all select 2",
-	} {
-		wantError(t, b, src, api.OK, 0)
-		wantError(t, b, src+" select", api.ErrSyntax, len(src)+1)
-	}
 }

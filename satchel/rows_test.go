@@ -83,7 +83,7 @@ func TestOrder(t *testing.T) {
 // TestOwnMemory (P2): what came out is its owner's.
 func TestOwnMemory(t *testing.T) {
 	b := shop(t)
-	for _, src := range []string{"select * from t", "select a, b from t", "select distinct b, a from t", "select * from t, u", "select 1, 'x' from t, u v"} {
+	for _, src := range []string{"select * from t", "select a, b from t", "select distinct b, a from t", "select * from t, u", "select 1, 'x' from t, u v", "select * from t union all select * from t", "select * from t union select 1, 'x'", "select * from t except all select 1, 'x'", "select * from t except select 5, null", "select * from t intersect all select * from t", "select * from t intersect select * from t", "select a, (select b) from t"} {
 		before, others := rowsShown(b.Exec(src).Rows), everything(b)
 		kept, spoilt := b.Exec(src), b.Exec(src)
 		for i, row := range spoilt.Rows {

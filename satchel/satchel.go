@@ -28,7 +28,7 @@ func New() *Base { return &Base{} }
 // Exec does what a statement says (P4 to P10).
 func (b *Base) Exec(src string) api.Result {
 	statement, errno, at := syntax.Parse(src)
-	if statement == nil {
+	if errno != api.OK {
 		return api.Result{Err: errno, At: at}
 	}
 	return b.do(statement)

@@ -48,10 +48,10 @@ func TestWidths(t *testing.T) {
 // operands are exprs of each type, over the table w.
 func operands() map[string][]string {
 	return map[string][]string{
-		"int":  {"1", "i", "w.i", "-i", "1 + 1", "null + null", "- null", "(i)", "coalesce(null, i)", "case when p then null else 1 end"},
-		"text": {"'x'", "s", "w.s", "('x')", "coalesce(null, null, s)", "case when null then 'x' end"},
-		"bool": {"true", "false", "p", "(i = 1)", "(null = null)", "(not null)", "(null and null)", "(null or null)", "(s is null)", "(null is not null)", "coalesce(p, null)", "case when p then p when p then null end"},
-		"none": {"null", "(null)", "coalesce(null, null)", "case when true then null else null end", "case when null then null end"},
+		"int":  {"1", "i", "w.i", "-i", "1 + 1", "null + null", "- null", "(i)", "coalesce(null, i)", "case when p then null else 1 end", "(select 1)", "(select i)", "((select null union select i from w v))"},
+		"text": {"'x'", "s", "w.s", "('x')", "coalesce(null, null, s)", "case when null then 'x' end", "(select s)", "(select 'x' union select null)", "(select v.s from w v)"},
+		"bool": {"true", "false", "p", "(i = 1)", "(null = null)", "(not null)", "(null and null)", "(null or null)", "(s is null)", "(null is not null)", "coalesce(p, null)", "case when p then p when p then null end", "exists (select 1)", "(i in (select i))", "(null not in (select null))", "(select p)"},
+		"none": {"null", "(null)", "coalesce(null, null)", "case when true then null else null end", "case when null then null end", "(select null)", "((select null) union select null)", "(select null from w)"},
 	}
 }
 

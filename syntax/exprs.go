@@ -59,10 +59,11 @@ func (p *parser) compare() Expr {
 	case p.accept("is"):
 		return p.isNull(operation(sign, left))
 	case p.accept("not"):
+		in := p.peek()
 		p.expect("in")
-		return p.within()
+		return operation(sign, p.within(in, left))
 	case p.accept("in"):
-		return p.within()
+		return p.within(sign, left)
 	}
 	return left
 }
@@ -93,7 +94,7 @@ func (p *parser) atom() Expr {
 	case first.kind == name:
 		return p.column()
 	case p.isQuery(), p.accept("exists"):
-		return p.within()
+		return p.within(first)
 	case p.sees("("):
 		return enclosed(p, p.expr)
 	case p.accept("coalesce"):
@@ -125,11 +126,10 @@ func (p *parser) column() Expr {
 	return &Column{Name: first.Word, At: first.At}
 }
 
-// within reads a query within an expr.
-func (p *parser) within() Expr {
-	p.unmade = true
-	enclosed(p, p.query)
-	return nil
+// within reads the query of an exists, of an in with its operand, or by itself:
+// then the word is its "(".
+func (p *parser) within(word token, operands ...Expr) Expr {
+	return &Within{word.word, word.at, operands, enclosed(p, p.query)}
 }
 
 // isQuery tells whether the atom that is next is a query: whether select is the

@@ -5,8 +5,7 @@ package syntax
 import "satchel/api"
 
 // Parse makes a statement of src, with OK 0, or tells what is wrong first and
-// where (P3). It makes none yet of a text with a query within an expr, or with
-// union, except or intersect: then it is nil, with OK 0.
+// where (P3).
 func Parse(src string) (Statement, api.Errno, int) {
 	if len(src) > api.MaxText {
 		return nil, api.ErrLong, 0
@@ -14,7 +13,7 @@ func Parse(src string) (Statement, api.Errno, int) {
 	p := parser{tokens: split(src)}
 	statement := p.statement()
 	p.expectEnd()
-	if p.errno != api.OK || p.unmade {
+	if p.errno != api.OK {
 		return nil, p.errno, p.at
 	}
 	return statement, api.OK, 0
@@ -30,7 +29,6 @@ type parser struct {
 	depth  int // how many things are open
 	errno  api.Errno
 	at     int
-	unmade bool // something was read that the tree does not have yet
 }
 
 // fail keeps the first error only. It goes to the last token, which no part of

@@ -84,27 +84,20 @@ func (p *parser) set() Set {
 	return Set{column, equals.At, equals.Expr}
 }
 
-func (p *parser) query() *Select {
-	first := p.term()
-	for p.accept("union", "except") {
-		p.unmade = true
-		p.accept("all")
-		p.term()
+func (p *parser) query() Query { return p.combined(p.term, "union", "except") }
+
+func (p *parser) term() Query { return p.combined(p.factor, "intersect") }
+
+// combined reads queries with these words between: the first two belong together first.
+func (p *parser) combined(side func() Query, words ...string) Query {
+	made := side()
+	for word := p.peek(); p.accept(words...); word = p.peek() {
+		made = &Combined{word.word, word.at, p.accept("all"), made, side()}
 	}
-	return first
+	return made
 }
 
-func (p *parser) term() *Select {
-	first := p.factor()
-	for p.accept("intersect") {
-		p.unmade = true
-		p.accept("all")
-		p.factor()
-	}
-	return first
-}
-
-func (p *parser) factor() *Select {
+func (p *parser) factor() Query {
 	if p.sees("(") {
 		return enclosed(p, p.query)
 	}

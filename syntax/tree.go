@@ -2,7 +2,7 @@ package syntax
 
 import "satchel/api"
 
-// Statement is a *Create, *Drop, *Insert, *Delete, *Update, *Transaction or *Select.
+// Statement is a *Create, *Drop, *Insert, *Delete, *Update, *Transaction or a Query.
 type Statement interface{ isStatement() }
 
 // Name is a word that the statement's writer chose, and its place.
@@ -28,7 +28,7 @@ type Insert struct {
 	Into  int // the place of into
 	Table Name
 	Rows  []Row
-	Query *Select
+	Query Query
 }
 
 type Row struct {
@@ -56,6 +56,21 @@ type Set struct {
 // Transaction is a begin, a commit or a rollback.
 type Transaction struct{ Word string }
 
+// Query is a *Select or a *Combined.
+type Query interface {
+	Statement
+	isQuery()
+}
+
+// Combined is two queries with union, except or intersect between them.
+type Combined struct {
+	Word   string
+	At     int
+	All    bool
+	First  Query
+	Second Query
+}
+
 // Select has Exprs, or else all columns of what it is from.
 type Select struct {
 	Distinct bool
@@ -79,18 +94,20 @@ type Clause struct {
 	Expr Expr
 }
 
-// Expr is a *Constant, *Column, *Operation or *Case.
+// Expr is a *Constant, *Column, *Operation, *Case or *Within.
 type Expr interface{ isExpr() }
 
 type Constant struct{ Value api.Value }
 
 // Column is a name in an expr, with that of a table ahead of it or without ("").
 type Column struct {
-	Table  string
-	Name   string
-	At     int
-	Source int // which of the tables around it, and which of its columns it
-	Cell   int // means: found out when the names are checked
+	Table string
+	Name  string
+	At    int
+	// What it means is found out when the names are checked:
+	Out    int // how many selects out from the innermost one around it,
+	Source int // which of the tables there,
+	Cell   int // which of its columns.
 }
 
 // Operation is what a sign or a word makes of its operands.
@@ -107,6 +124,14 @@ type Case struct {
 
 type Arm struct{ When, Then Clause }
 
+// Within is a query within an expr.
+type Within struct {
+	Word     string // exists, in, or the "(" of a query by itself
+	At       int
+	Operands []Expr // of in the one ahead of it, else none
+	Query    Query
+}
+
 func (*Create) isStatement()      {}
 func (*Drop) isStatement()        {}
 func (*Insert) isStatement()      {}
@@ -114,8 +139,13 @@ func (*Delete) isStatement()      {}
 func (*Update) isStatement()      {}
 func (*Transaction) isStatement() {}
 func (*Select) isStatement()      {}
+func (*Combined) isStatement()    {}
+
+func (*Select) isQuery()   {}
+func (*Combined) isQuery() {}
 
 func (*Constant) isExpr()  {}
 func (*Column) isExpr()    {}
 func (*Operation) isExpr() {}
 func (*Case) isExpr()      {}
+func (*Within) isExpr()    {}

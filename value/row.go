@@ -58,10 +58,32 @@ func CompareRows(a, b Row) int {
 	return 0
 }
 
-// Sort puts rows in their order.
-func Sort(rows []Row) { slices.SortFunc(rows, CompareRows) }
+// Sorted is the rows of several lists in their order.
+func Sorted(lists ...[]Row) []Row {
+	rows := slices.Concat(lists...)
+	slices.SortFunc(rows, CompareRows)
+	return rows
+}
 
 // Once leaves each of the rows, which are in order, there once.
 func Once(rows []Row) []Row {
 	return slices.CompactFunc(rows, func(a, b Row) bool { return CompareRows(a, b) == 0 })
+}
+
+// Matched takes two lists of rows that are in order, and for each row of the first
+// one that is the same out of the second, as long as there is one left: those
+// rows of the first for which there was one, and the rest, both in order.
+func Matched(first, second []Row) (matched, rest []Row) {
+	for _, row := range first {
+		for len(second) > 0 && CompareRows(second[0], row) < 0 {
+			second = second[1:]
+		}
+		if len(second) > 0 && CompareRows(second[0], row) == 0 {
+			second = second[1:]
+			matched = append(matched, row)
+		} else {
+			rest = append(rest, row)
+		}
+	}
+	return matched, rest
 }

@@ -56,6 +56,25 @@ func Of(word string, operands ...api.Value) api.Value {
 	return Bool(compared(word, Compare(operands[0], operands[1])))
 }
 
+// In tells whether v is one of the values, as far as that is known.
+func In(v api.Value, values ...api.Value) api.Value {
+	switch {
+	case !IsNull(v) && slices.Contains(values, v):
+		return Bool(true)
+	case len(values) > 0 && IsNull(v), slices.ContainsFunc(values, IsNull):
+		return Null()
+	}
+	return Bool(false)
+}
+
+// Single is the value, if there is just one, else null.
+func Single(values ...api.Value) api.Value {
+	if len(values) != 1 {
+		return Null()
+	}
+	return values[0]
+}
+
 // decidedBy is decisive if an operand is, else null if one is, else the other truth.
 func decidedBy(decisive api.Value, operands ...api.Value) api.Value {
 	switch {
